@@ -1,0 +1,1 @@
+"""Switches under rules of two, flipped one at a time."""

@@ -1,0 +1,9 @@
+"""The limits of what may be asked."""
+
+MOST_NAME = 8
+MOST_SWITCHES = 10
+MOST_RULES = 240
+MOST_WISHED = 10
+MOST_ROW = 1000
+MOST_SEEN = 40
+MOST_GIVEN = 10
