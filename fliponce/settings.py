@@ -1,8 +1,8 @@
 """The good settings of a panel, and which rules a setting breaks."""
 
-from fliponce.errors import InvalidLiteral, InvalidSetting
+from fliponce.errors import InvalidLiteral, InvalidSetting, UnknownSwitch
 from fliponce.panels import check_panel
-from fliponce.shapes import SIGNS, clauses, has_literal, is_literal, is_setting, keeps
+from fliponce.shapes import SIGNS, clauses, has_literal, is_literal, is_setting, is_switch, keeps
 
 
 def check_setting(panel, value):
@@ -15,6 +15,12 @@ def check_literal(panel, value):
     """Raise InvalidLiteral for what is no literal of the panel."""
     if not is_literal(panel.switches, value):
         raise InvalidLiteral(value)
+
+
+def check_switch(panel, value):
+    """Raise UnknownSwitch for what is no switch of the panel."""
+    if not is_switch(panel.switches, value):
+        raise UnknownSwitch(value)
 
 
 def broken_rules(panel, setting):

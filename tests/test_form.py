@@ -6,6 +6,8 @@ import pathlib
 import unittest
 
 PACKAGE = pathlib.Path(__file__).resolve().parent.parent / "fliponce"
+# Python's own shell, and doctest with it, may put one more name there.
+BUILTINS = set(dir(builtins)) - {"_"}
 LET = set("""
     len range enumerate zip min max sum abs sorted reversed int str bool bytes list tuple dict set frozenset isinstance
     ord repr any all divmod iter next map Exception ValueError TypeError KeyError IndexError LookupError
@@ -27,6 +29,10 @@ INTERFACE = {
     ],
     "panels.py": ["Panel"],
     "settings.py": ["has_setting", "is_good", "broken", "settings", "how_many", "holds"],
+    "needs.py": ["needs", "way", "needed", "fixed", "ties"],
+    "moving.py": ["locked", "lets", "comes", "distance", "ahead", "order_of", "many_orders"],
+    "nearest.py": ["nearest", "price", "dearest"],
+    "pieces.py": ["pieces", "piece", "widest", "middle"],
 }
 
 
@@ -71,11 +77,34 @@ class FormTest(unittest.TestCase):
     def test_builtins(self):
         for path, tree in trees():
             for node in ast.walk(tree):
-                if isinstance(node, ast.Name) and hasattr(builtins, node.id):
+                if isinstance(node, ast.Name) and node.id in BUILTINS:
                     self.assertIsInstance(node.ctx, ast.Load, (path.name, node.id))
                     self.assertIn(node.id, LET, (path.name, node.lineno))
                 if isinstance(node, ast.arg):
-                    self.assertFalse(hasattr(builtins, node.arg), (path.name, node.arg))
+                    self.assertNotIn(node.arg, BUILTINS, (path.name, node.arg))
+
+    def test_no_name_means_two_things(self):
+        for path, tree in trees():
+            taken = {alias.name for node in tree.body if isinstance(node, ast.ImportFrom) for alias in node.names}
+            taken |= {node.name for node in tree.body if isinstance(node, (ast.ClassDef, ast.FunctionDef))}
+            for node in ast.walk(tree):
+                if isinstance(node, ast.arg):
+                    self.assertNotIn(node.arg, taken, (path.name, node.lineno))
+                if isinstance(node, ast.Name) and isinstance(node.ctx, ast.Store):
+                    self.assertNotIn(node.id, taken, (path.name, node.lineno))
+
+    def test_no_generator_expressions(self):
+        for path, tree in trees():
+            for node in ast.walk(tree):
+                self.assertNotIsInstance(node, ast.GeneratorExp, path.name)
+
+    def test_every_import_is_used(self):
+        for path, tree in trees():
+            used = {node.id for node in ast.walk(tree) if isinstance(node, ast.Name)}
+            for node in tree.body:
+                if isinstance(node, ast.ImportFrom):
+                    for alias in node.names:
+                        self.assertIn(alias.name, used, path.name)
 
     def test_constants(self):
         for path, tree in trees():

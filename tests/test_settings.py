@@ -1,9 +1,9 @@
-import itertools
 import unittest
 
 from fliponce.errors import InvalidLiteral, InvalidSetting, NotAPanel
 from fliponce.panels import Panel
 from fliponce.settings import broken, has_setting, holds, how_many, is_good, settings
+from plain import all_rules, all_settings, broken_plainly, many_panels
 from values import odd_values
 
 CHAIN = Panel.read("switches a, b, c\nneeds +a +b\nneeds +b +c")
@@ -12,50 +12,6 @@ NONE = Panel.read("switches a, b\nbe +a\nbe -a")
 FREE = Panel(("a", "b"))
 NO_SETTINGS = ["", "+", "++", "++++", "+-+-", "+ +", "+*-", "+-\n", "ab+", "+\u2212-", "abc", "+" * 10000, b"+++",
                ("+", "+", "+"), ["+", "+", "+"]]
-
-
-def kept(rule, signs):
-    """Whether a rule is kept, told straight from the document; signs is a dict of the signs of all switches."""
-    word = rule[0]
-    if word in ("same", "unlike"):
-        return (signs[rule[1]] == signs[rule[2]]) == (word == "same")
-    held = [signs[name] == sign for name, sign in rule[1:]]
-    if word == "be":
-        return held[0]
-    if word == "either":
-        return held[0] or held[1]
-    if word == "needs":
-        return held[1] or not held[0]
-    return not (held[0] and held[1])
-
-
-def all_settings(switches):
-    return ["".join(signs) for signs in itertools.product("+-", repeat=len(switches))]
-
-
-def broken_plainly(panel, setting):
-    signs = dict(zip(panel.switches, setting))
-    return tuple(index for index, rule in enumerate(panel.rules) if not kept(rule, signs))
-
-
-def all_rules(switches):
-    rules = [("be", (name, sign)) for name in switches for sign in "+-"]
-    for one, other in itertools.permutations(switches, 2):
-        rules += [("same", one, other), ("unlike", one, other)]
-        for first, second in itertools.product("+-", repeat=2):
-            rules += [(word, (one, first), (other, second)) for word in ("either", "needs", "bars")]
-    return rules
-
-
-def many_panels():
-    """Panels of every single rule over three switches, and of rows of rules taken here and there."""
-    rules = all_rules(("b", "a", "c"))
-    panels = [Panel(("b", "a", "c"), (rule,)) for rule in rules]
-    for step in range(1, len(rules), 3):
-        for many in (2, 3, 5):
-            row = tuple(rules[(step * k * k + 7 * k) % len(rules)] for k in range(many))
-            panels.append(Panel(("b", "a", "c"), row))
-    return panels
 
 
 class RuleMeaningTest(unittest.TestCase):
