@@ -11,14 +11,22 @@ def literals(panel):
     return [(name, sign) for name in panel.switches for sign in SIGNS]
 
 
+def rule_steps(rule):
+    """The pairs of literals of which the rule makes a step from the one to the other."""
+    # One of both has to hold, so where the opposite of one of them holds, the other one does.
+    return [
+        pair
+        for one, other in clauses(rule)
+        for pair in ((opposite(one), other), (opposite(other), one))
+    ]
+
+
 def steps(panel):
     """For each literal, the pairs (index of a rule, literal) of the steps that the rules make from it."""
     made = {literal: [] for literal in literals(panel)}
     for index, rule in enumerate(panel.rules):
-        for one, other in clauses(rule):
-            # One of both has to hold, so where the opposite of one of them holds, the other one does.
-            made[opposite(one)].append((index, other))
-            made[opposite(other)].append((index, one))
+        for here, there in rule_steps(rule):
+            made[here].append((index, there))
     return made
 
 

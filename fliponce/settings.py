@@ -1,8 +1,8 @@
 """The good settings of a panel, and which rules a setting breaks."""
 
-from fliponce.errors import InvalidLiteral, InvalidSetting, UnknownSwitch
+from fliponce.errors import InvalidLiteral, InvalidRule, InvalidSetting, UnknownSwitch
 from fliponce.panels import check_panel
-from fliponce.shapes import SIGNS, clauses, has_literal, is_literal, is_setting, is_switch, keeps
+from fliponce.shapes import SIGNS, clauses, has_literal, is_literal, is_rule, is_setting, is_switch, keeps
 
 
 def check_setting(panel, value):
@@ -21,6 +21,12 @@ def check_switch(panel, value):
     """Raise UnknownSwitch for what is no switch of the panel."""
     if not is_switch(panel.switches, value):
         raise UnknownSwitch(value)
+
+
+def check_rule(panel, value):
+    """Raise InvalidRule for what is no rule over the switches of the panel."""
+    if not is_rule(panel.switches, value):
+        raise InvalidRule(value)
 
 
 def broken_rules(panel, setting):

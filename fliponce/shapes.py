@@ -14,6 +14,11 @@ NAME_WORDS = ("same", "unlike")
 WORDS = ("be", "either", "needs", "bars", "same", "unlike")
 
 
+def is_number(value):
+    """Whether the value is an integer from 0 on."""
+    return isinstance(value, int) and not isinstance(value, bool) and value >= 0
+
+
 def is_name(value):
     """Whether the value is a name that a switch may have."""
     if not isinstance(value, str) or value in WORDS:

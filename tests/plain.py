@@ -231,3 +231,55 @@ def larger_panels():
 
 def panels_to_try():
     return many_panels() + larger_panels()
+
+
+def keeps_everywhere(panel, rule):
+    return all(kept(rule, dict(zip(panel.switches, setting))) for setting in good_settings(panel))
+
+
+@once
+def wish_plainly(panel, wish):
+    """Whether a wish holds, told straight from the document; pieces are what rows of flips lead to."""
+    good = good_settings(panel)
+    if wish[0] == "loose":
+        return not good or wish[1] not in locked_plainly(panel)
+    if wish[0] == "one piece":
+        return not good or len(flips_to_all(panel, good[0])) == len(good)
+    return len(good) >= wish[1]
+
+
+def promise_plainly(panel, promise):
+    if promise[0] == "good":
+        return promise[1] in good_settings(panel)
+    if promise[0] == "implies":
+        return keeps_everywhere(panel, promise[1])
+    return wish_plainly(panel, promise)
+
+
+def middle_plainly(*three):
+    return "".join(max("+-", key=signs.count) for signs in zip(*three))
+
+
+def closure_plainly(seen):
+    """All that comes by taking middles of three, again and again."""
+    found = set(seen)
+    while True:
+        more = {middle_plainly(*three) for three in itertools.combinations(sorted(found), 3)} - found
+        if not more:
+            return tuple(sorted(found))
+        found |= more
+
+
+@functools.lru_cache(maxsize=None)
+def families(switches):
+    """The sets of good settings of all panels over the switches: all sets of rules, searched through."""
+    everything = frozenset(all_settings(switches))
+    alone = {frozenset(good_settings(Panel(switches, (rule,)))) for rule in all_rules(switches)}
+    found = {everything}
+    line = [everything]
+    for family in line:
+        for other in alone:
+            if family & other not in found:
+                found.add(family & other)
+                line.append(family & other)
+    return frozenset(found)

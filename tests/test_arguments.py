@@ -1,11 +1,13 @@
-"""Wrong arguments, by place and by name, of the functions about needs, moving, nearest settings and pieces."""
+"""Wrong arguments, by place and by name, of the functions that take a panel and what belongs to it."""
 
 import inspect
 import itertools
 import unittest
 
+from fliponce.comparing import alike, give_up, implies, needless, parting
 from fliponce.errors import (
-    InvalidLiteral, InvalidLiterals, InvalidSetting, NoSetting, NotAkin, NotAPanel, UnknownSwitch,
+    InvalidLiteral, InvalidLiterals, InvalidPromise, InvalidRule, InvalidSetting, NoSetting, NotAkin, NotAPanel,
+    UnknownSwitch,
 )
 from fliponce.moving import ahead, comes, distance, lets, locked, many_orders, order_of
 from fliponce.nearest import dearest, nearest, price
@@ -32,11 +34,14 @@ CALLS = [
     (dearest, {"panel": CHAIN, "literal": A}), (pieces, {"panel": CHAIN}),
     (piece, {"panel": CHAIN, "setting": "--+"}), (widest, {"panel": CHAIN, "setting": "--+"}),
     (middle, {"panel": CHAIN, "first": "---", "second": "-++", "third": "+++"}),
+    (implies, {"panel": CHAIN, "rule": ("needs", A, ("c", "+"))}), (needless, {"panel": CHAIN}),
+    (alike, {"panel": CHAIN, "other": TIED}), (parting, {"panel": CHAIN, "other": TIED}),
+    (give_up, {"panel": CHAIN, "wish": ("many", 5)}),
 ]
 ERRORS = {
     "panel": NotAPanel, "literal": InvalidLiteral, "goal": InvalidLiteral, "setting": InvalidSetting,
     "first": InvalidSetting, "second": InvalidSetting, "third": InvalidSetting, "switch": UnknownSwitch,
-    "wished": InvalidLiterals,
+    "wished": InvalidLiterals, "rule": InvalidRule, "other": NotAPanel, "wish": InvalidPromise,
 }
 
 
@@ -56,8 +61,24 @@ def no_settings():
     ]
 
 
+def no_rules():
+    found = odd_values() + [
+        "", "be", "be +a", (), ("be",), ("be", "a"), ("be", "+a"), ("be", A, A), ("be", ("d", "+")), ("be", ["a", "+"]),
+        ["be", A], ("is", A), ("either", A), ("either", A, A), ("either", A, ("a", "-")), ("either", A, C, C),
+        ("needs", "a", "c"), ("needs", A, ("d", "+")), ("bars", A, "c"), ("same", "a"), ("same", "a", "a"),
+        ("same", "a", "d"), ("same", A, C), ("unlike", "a", "b", "c"), ("unlike", "a", ["b"]), A, CHAIN.rules, CHAIN,
+    ]
+    found += [("be", value) for value in odd_values()] + [(value, A) for value in odd_values()]
+    return found + [("needs", A, value) for value in odd_values()] + [("same", value, "a") for value in odd_values()]
+
+
+def no_panels():
+    return odd_values() + ["", "a", CHAIN.text(), (CHAIN,), [CHAIN], Panel, CHAIN.switches, CHAIN.rules]
+
+
 WRONG = {
-    "panel": odd_values() + ["", "a", CHAIN.text(), (CHAIN,), [CHAIN], Panel, CHAIN.switches, CHAIN.rules],
+    "panel": no_panels(), "other": no_panels(), "rule": no_rules(),
+    "wish": odd_values() + [(), ("many",), ("many", True), ("many", -1), ("loose", "d"), ("good", "---"), ("loose", A)],
     "literal": no_literals(), "goal": no_literals(),
     "setting": no_settings(), "first": no_settings(), "second": no_settings(), "third": no_settings(),
     "switch": odd_values() + ["", "d", "ab", "A", "a ", "+", "be", ("a", "+"), ["a"], b"a", "a" * 10000, CHAIN],
@@ -92,6 +113,7 @@ class GoodArgumentsTest(unittest.TestCase):
             "fixed": (), "ties": (), "locked": (), "lets": True, "comes": True, "distance": 2, "ahead": (("c", "b"),),
             "order_of": ("c", "b"), "many_orders": 1, "nearest": "+++", "price": 3, "dearest": (3, "---"),
             "pieces": ("+++",), "piece": ("+++", "-++", "--+", "---"), "widest": 3, "middle": "-++",
+            "implies": True, "needless": (), "alike": False, "parting": "++-", "give_up": ((0,), (1,)),
         })
 
     def test_nothing_passed_is_altered(self):

@@ -33,6 +33,15 @@ INTERFACE = {
     "moving.py": ["locked", "lets", "comes", "distance", "ahead", "order_of", "many_orders"],
     "nearest.py": ["nearest", "price", "dearest"],
     "pieces.py": ["pieces", "piece", "widest", "middle"],
+    "comparing.py": ["implies", "needless", "alike", "parting", "give_up"],
+    "learned.py": ["tightest", "fits", "surely", "closure"],
+    "led.py": ["Board", "attempt"],
+    "desks.py": ["Desk", "tried"],
+}
+METHODS = {
+    "Panel": ["__init__", "read", "text", "__str__", "__len__", "__eq__"],
+    "Board": ["__init__", "__len__", "do", "do_all", "undo", "trial"],
+    "Desk": ["__init__", "__len__", "as_panel", "put", "take", "promise", "lift", "undo", "trial"],
 }
 
 
@@ -121,6 +130,14 @@ class FormTest(unittest.TestCase):
         }
         for name, wanted in INTERFACE.items():
             self.assertIn(name, found)
+            self.assertLessEqual(set(wanted), found[name])
+
+    def test_methods_stand_in_their_classes(self):
+        found = {
+            node.name: {row.name for row in node.body if isinstance(row, ast.FunctionDef)}
+            for _, tree in trees() for node in tree.body if isinstance(node, ast.ClassDef)
+        }
+        for name, wanted in METHODS.items():
             self.assertLessEqual(set(wanted), found[name])
 
 
