@@ -8,6 +8,14 @@ import itertools
 
 from fliponce.panels import Panel
 
+# Panels to try one thing or another with, and what makes the largest ones.
+CHAIN = Panel.read("switches a, b, c\nneeds +a +b\nneeds +b +c")
+TIED = Panel.read("switches a, b, c\nsame a b\neither +b +c")
+NONE = Panel.read("switches a, b, c\nbe +a\nbe -a")
+FREE = Panel(("a", "b", "c"))
+TEN = tuple("jihgfedcba")
+RING = tuple(("needs", (one, "+"), (other, "+")) for one, other in zip(TEN, TEN[1:] + TEN[:1]))
+
 
 def once(question):
     """The question about a panel, searched only once for equal switches and rules."""

@@ -4,6 +4,9 @@ import inspect
 import itertools
 import unittest
 
+from fliponce.certificates import (
+    certify_coming, certify_empty, certify_fixed, certify_implied, certify_locked, certify_nearest,
+)
 from fliponce.comparing import alike, give_up, implies, needless, parting
 from fliponce.errors import (
     InvalidLiteral, InvalidLiterals, InvalidPromise, InvalidRule, InvalidSetting, NoSetting, NotAkin, NotAPanel,
@@ -14,11 +17,9 @@ from fliponce.nearest import dearest, nearest, price
 from fliponce.needs import fixed, needed, needs, ties, way
 from fliponce.panels import Panel
 from fliponce.pieces import middle, piece, pieces, widest
+from plain import CHAIN, NONE, TIED
 from values import AlwaysEqual, NeverAnswers, nested, odd_values
 
-CHAIN = Panel.read("switches a, b, c\nneeds +a +b\nneeds +b +c")
-TIED = Panel.read("switches a, b, c\nsame a b\neither +b +c")
-NONE = Panel.read("switches a, b, c\nbe +a\nbe -a")
 A, C = ("a", "+"), ("c", "-")
 CALLS = [
     (needs, {"panel": CHAIN, "literal": A, "goal": C}), (way, {"panel": CHAIN, "literal": A, "goal": ("c", "+")}),
@@ -37,6 +38,11 @@ CALLS = [
     (implies, {"panel": CHAIN, "rule": ("needs", A, ("c", "+"))}), (needless, {"panel": CHAIN}),
     (alike, {"panel": CHAIN, "other": TIED}), (parting, {"panel": CHAIN, "other": TIED}),
     (give_up, {"panel": CHAIN, "wish": ("many", 5)}),
+    (certify_empty, {"panel": CHAIN}), (certify_fixed, {"panel": CHAIN, "literal": A}),
+    (certify_locked, {"panel": CHAIN, "switch": "a"}),
+    (certify_implied, {"panel": CHAIN, "rule": ("needs", A, ("c", "+"))}),
+    (certify_coming, {"panel": CHAIN, "first": "---", "second": "+++"}),
+    (certify_nearest, {"panel": CHAIN, "setting": "---", "wished": (("b", "+"),)}),
 ]
 ERRORS = {
     "panel": NotAPanel, "literal": InvalidLiteral, "goal": InvalidLiteral, "setting": InvalidSetting,
@@ -114,6 +120,14 @@ class GoodArgumentsTest(unittest.TestCase):
             "order_of": ("c", "b"), "many_orders": 1, "nearest": "+++", "price": 3, "dearest": (3, "---"),
             "pieces": ("+++",), "piece": ("+++", "-++", "--+", "---"), "widest": 3, "middle": "-++",
             "implies": True, "needless": (), "alike": False, "parting": "++-", "give_up": ((0,), (1,)),
+            "certify_empty": None, "certify_fixed": None, "certify_locked": None,
+            "certify_implied": (
+                ("implied", CHAIN.text(), ("needs", A, ("c", "+"))), ("+++", (((0, ("b", "+")), (1, ("c", "+"))),)),
+            ),
+            "certify_coming": (("comes", CHAIN.text(), "---", "+++"), ("c", "b", "a")),
+            "certify_nearest": (
+                ("nearest", CHAIN.text(), "---", (("b", "+"),), "-++"), (("c", "b"), ((), ((1, ("c", "+")),))),
+            ),
         })
 
     def test_nothing_passed_is_altered(self):

@@ -4,15 +4,12 @@ import unittest
 from fliponce.comparing import alike, give_up, implies, needless, parting
 from fliponce.errors import InvalidPromise, InvalidRule, InvalidSwitches, NotAPanel, TooMany
 from fliponce.panels import Panel
-from plain import all_rules, good_settings, keeps_everywhere, many_panels, panels_to_try, wish_plainly
+from plain import (
+    CHAIN, FREE, NONE, RING, TEN, TIED, all_rules, good_settings, keeps_everywhere, many_panels, panels_to_try,
+    wish_plainly,
+)
 from values import AlwaysEqual, NeverAnswers, odd_values
 
-CHAIN = Panel.read("switches a, b, c\nneeds +a +b\nneeds +b +c")
-TIED = Panel.read("switches a, b, c\nsame a b\neither +b +c")
-NONE = Panel.read("switches a, b, c\nbe +a\nbe -a")
-FREE = Panel(("a", "b", "c"))
-TEN = tuple("jihgfedcba")
-RING = tuple(("needs", (one, "+"), (other, "+")) for one, other in zip(TEN, TEN[1:] + TEN[:1]))
 NO_WISHES = [
     (), ("loose",), ("loose", "d"), ("loose", ""), ("loose", "a", "b"), ("loose", ("a", "+")), ("loose", 0), "loose",
     ["loose", "a"], ("one piece", 1), ("one piece", "a"), ("one piece", ()), "one piece", ["one piece"], ("one",),

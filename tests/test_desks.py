@@ -25,6 +25,7 @@ NO_PROMISES = [
     ("good", b"+++"), ("good", ("+", "+", "+")), ("good", "+++", "---"), ("implies",), ("implies", "be +a"),
     ("implies", BE_A, BE_A), ("implies", ("be", ("d", "+"))), ("implies", ("same", "a", "a")), "one piece",
     ["good", "+++"], ["one piece"], BE_A, ("Good", "+++"), ("", "+++"), (("many", 1),), ("loose", "a "),
+    ("Implies", BE_A), ("is", BE_A), ("", BE_A), ("many", BE_A), ("good", BE_A), ("loose", BE_A), ("one piece", BE_A),
 ]
 NO_NUMBERS = [value for value in odd_values() if isinstance(value, bool) or not isinstance(value, int)]
 NO_INDEXES = NO_NUMBERS + [-1, -10 ** 59, 10 ** 59, "0", "", (0,), [0], b"0"]

@@ -37,11 +37,18 @@ INTERFACE = {
     "learned.py": ["tightest", "fits", "surely", "closure"],
     "led.py": ["Board", "attempt"],
     "desks.py": ["Desk", "tried"],
+    "checker.py": ["holds_claim"],
+    "certificates.py": [
+        "certify_empty", "certify_fixed", "certify_locked", "certify_implied", "certify_coming", "certify_nearest",
+    ],
+    "consoles.py": ["Console"],
+    "samples.py": ["chain", "shed"],
 }
 METHODS = {
     "Panel": ["__init__", "read", "text", "__str__", "__len__", "__eq__"],
     "Board": ["__init__", "__len__", "do", "do_all", "undo", "trial"],
     "Desk": ["__init__", "__len__", "as_panel", "put", "take", "promise", "lift", "undo", "trial"],
+    "Console": ["__init__", "say"],
 }
 
 
